@@ -1,0 +1,1 @@
+"""Fetchunseen: a book is fetched, and nobody learns which."""

@@ -1,0 +1,1 @@
+"""Numbers below the rest: letters of a prime, and rows of them."""
