@@ -16,10 +16,32 @@ FUNCTIONS = {
         "parts_or_look(prime, rows, goal)", "is_parts_or_look(prime, rows, goal, value)",
         "product(prime, one, other)", "inverse_table(prime, table)",
     ),
+    "fetchunseen.base.ranks": (
+        "rank_paper(prime, rows)", "is_rank_paper(prime, rows, value)", "rank_of(prime, rows, places)",
+        "rank_beside(prime, rows, columns)", "meet_of(prime, one, other)", "both_ranks(prime, one, other)",
+        "cover_numbers(prime, rows, lots, cover)",
+    ),
+    "fetchunseen.base.fractions": (
+        "is_fraction(value)", "fraction(top, bottom)", "plus(one, other)", "less(one, other)", "times(one, other)",
+        "over(one, other)", "compared(one, other)", "added(fractions)", "mean(pairs)", "powers_added(one, many)",
+    ),
+    "fetchunseen.lots.lots": (
+        "is_lots(houses, value)", "greatest_lots(houses, lots)", "free_houses(houses, lots)", "lone_lots(houses)",
+        "all_lots(houses, most)", "are_within(houses, lots, others)", "exchanged_lots(houses, lots, order)",
+        "spread_lots(houses, lots, parts)",
+    ),
+    "fetchunseen.lots.weights": (
+        "is_weights(houses, lots, value)", "is_cover(houses, lots, value)", "sum_of(fractions)",
+        "lot_sums_of(houses, lots, weights)", "weights_answer(houses, lots)",
+        "is_weights_answer(houses, lots, value)", "parts_of(houses, lots)",
+    ),
 }
 CONSTANTS = {
     "fetchunseen.base.fields": {"MOST_PRIME": 9973, "MOST_TIMES": 10 ** 9},
     "fetchunseen.base.rows": {"MOST_ROWS": 200, "MOST_WIDTH": 100},
+    "fetchunseen.base.fractions": {"MOST_ADDED": 100},
+    "fetchunseen.lots.lots": {"MOST_HOUSES": 6, "MOST_LOTS": 12},
+    "fetchunseen.lots.weights": {"MOST_PARTS": 6},
 }
 
 

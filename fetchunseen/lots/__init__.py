@@ -1,0 +1,1 @@
+"""Lots of houses, and weights and covers of them."""
