@@ -20,7 +20,9 @@ NODES = {
     "Call", "Attribute", "Name", "Subscript", "Slice", "Tuple", "List", "Dict", "Set", "ListComp", "DictComp",
     "comprehension", "Starred", "Load", "Store", "And", "Or", "Not", "USub", "Add", "Sub", "Mult", "FloorDiv", "Mod", "Pow",
     "Eq", "NotEq", "Lt", "LtE", "Gt", "GtE", "Is", "IsNot", "In", "NotIn", "LShift", "RShift", "BitAnd", "Pass",
+    "JoinedStr", "FormattedValue",
 }
+OWN_SIGNS = {"__init__", "__eq__", "__str__"}
 BUILTINS = {
     "len", "range", "enumerate", "zip", "min", "max", "sum", "abs", "sorted", "reversed", "int", "str", "bool", "list",
     "tuple", "dict", "set", "isinstance", "ord", "repr", "any", "all", "divmod", "Exception", "ValueError", "TypeError",
@@ -67,19 +69,30 @@ class Package:
         self.defined = {module_of(path): defined_in(tree) for path, tree in self.trees.items()}
         self.functions = {}
         self.classes = {}
+        self.attributes = {}
+        self.methods = {}
         for tree in self.trees.values():
             for node in tree.body:
                 if isinstance(node, ast.FunctionDef):
                     self.functions.setdefault(node.name, []).append(len(node.args.args))
                 if isinstance(node, ast.ClassDef):
                     self.classes[node.name] = node
+                    self.attributes[node.name] = attributes_of(node)
+                    self.methods[node.name] = {one.name: len(one.args.args) - 1 for one in node.body
+                                               if isinstance(one, ast.FunctionDef)}
 
     def problems(self):
         found = []
         for path in self.texts:
-            for check in (names_of_files, lines, syntax, imports, module_level, bindings, calls, words, numbers, errors, sets):
+            for check in CHECKS:
                 found.extend([f"{path}:{line}: {why}" for line, why in check(self, path)])
         return found + cycles(self)
+
+
+def attributes_of(tree):
+    """The attributes that are assigned to self."""
+    return {node.attr for node in ast.walk(tree) if isinstance(node, ast.Attribute) and isinstance(node.ctx, ast.Store)
+            and isinstance(node.value, ast.Name) and node.value.id == "self"}
 
 
 def is_builtin(name):
@@ -141,6 +154,42 @@ def syntax(package, path):
         if isinstance(node, ast.FunctionDef) and node.name == "__init__":
             if any(isinstance(inner, ast.Return) for inner in ast.walk(node)):
                 yield line, "L28: __init__ returns"
+        if isinstance(node, ast.FunctionDef) and node.name in ("__eq__", "__str__"):
+            if len(node.body) != 1 or not isinstance(node.body[0], ast.Return):
+                yield line, "L28: more than one return"
+        if isinstance(node, ast.Attribute) and isinstance(node.ctx, ast.Store) and not is_own(parents, node):
+            yield line, "an attribute is assigned to something else than self, or outside of __init__"
+        if isinstance(node, ast.FormattedValue):
+            if node.conversion != -1 or node.format_spec or any(isinstance(inner, ast.Constant) for inner in ast.walk(node)):
+                yield line, "L7, L27: what stands in an f-string"
+
+
+def is_own(parents, node):
+    """Whether what is assigned is an attribute of self in an __init__."""
+    above = parents[node]
+    while not isinstance(above, (ast.FunctionDef, ast.Module)):
+        above = parents[above]
+    return isinstance(node.value, ast.Name) and node.value.id == "self" and getattr(above, "name", "") == "__init__"
+
+
+def classes(package, path):
+    """L5, L18, L26: the names of methods and attributes."""
+    for node in package.trees[path].body:
+        if not isinstance(node, ast.ClassDef):
+            continue
+        names = [one.name for one in node.body if isinstance(one, ast.FunctionDef)]
+        if len(names) != len(set(names)) or set(names) & package.attributes[node.name]:
+            yield node.lineno, "L18: a method twice, or a method and an attribute"
+        for name in names + sorted(package.attributes[node.name]):
+            if name not in OWN_SIGNS and any(hasattr(kind, name) for kind in (str, int, list, dict, set, bytes, tuple)):
+                yield node.lineno, f"L26: {name} is a name of builtin values"
+            if name in BARRED | {"args", "format", "format_map"}:
+                yield node.lineno, f"L17: {name}"
+        for one in node.body:
+            if isinstance(one, ast.FunctionDef) and one.name.startswith("__") and one.name not in OWN_SIGNS:
+                yield one.lineno, f"{one.name} is not used in this package"
+            if not isinstance(one, ast.FunctionDef) and not isinstance(one, ast.Expr):
+                yield one.lineno, "L5: a class value"
 
 
 def imports(package, path):
@@ -234,7 +283,7 @@ def bindings(package, path):
                 if name not in local | known | BUILTINS or name == "_":
                     yield node.lineno, f"L8: {name} is read"
                 continue
-            if not re.fullmatch(r"_?[A-Za-z][A-Za-z0-9_]*|_|__init__", name) or name.startswith("_wall"):
+            if not re.fullmatch(r"_?[A-Za-z][A-Za-z0-9_]*|_|__init__|__eq__|__str__", name) or name.startswith("_wall"):
                 yield node.lineno, f"L12: {name}"
             if is_builtin(name) or name in BARRED:
                 yield node.lineno, f"L15, L17: {name} is bound"
@@ -247,8 +296,12 @@ def calls(package, path):
     parents = parents_of(package.trees[path])
     for node in ast.walk(package.trees[path]):
         if isinstance(node, ast.Attribute) and isinstance(node.ctx, ast.Load):
-            if node.attr not in METHODS or not isinstance(parents[node], ast.Call):
+            called = isinstance(parents[node], ast.Call) and parents[node].func is node
+            own = set().union(*package.methods.values()) - OWN_SIGNS
+            if called and node.attr not in METHODS | own:
                 yield node.lineno, f"L25: .{node.attr}"
+            if not called and node.attr not in set().union(*package.attributes.values()):
+                yield node.lineno, f"L18: .{node.attr} is assigned by no class"
         if not isinstance(node, ast.Call):
             continue
         if node.keywords:
@@ -263,6 +316,8 @@ def calls(package, path):
         if name in package.functions and name in defined_names(package, path) and not stars:
             if len(node.args) not in package.functions[name]:
                 yield node.lineno, f"L22: {name} takes another number"
+        if name in package.methods and len(node.args) != package.methods[name].get("__init__", len(node.args)):
+            yield node.lineno, f"L22: {name} takes another number"
         if name in ON_THE_SPOT and name not in defined_in(package.trees[path]) and not is_iterated(parents, node):
             yield node.lineno, f"L23: {name} is not iterated on the spot"
 
@@ -343,6 +398,9 @@ def sets(package, path):
             above = parents[node]
             if not (isinstance(above, ast.Call) and isinstance(above.func, ast.Name) and above.func.id in ("sorted", "len")):
                 yield node.lineno, "L24: a set"
+
+
+CHECKS = (names_of_files, lines, syntax, classes, imports, module_level, bindings, calls, words, numbers, errors, sets)
 
 
 def read_package(top):

@@ -3,16 +3,19 @@
 import importlib
 import itertools
 import os
+import time
 import unittest
 
 from fetchunseen import errors
+from fetchunseen.books.library import Library
+from fetchunseen.scheme.schemes import Scheme
 
 TOP = os.path.dirname(os.path.dirname(os.path.abspath(__file__)))
 
 
 def run_examples(test, module_name, block):
-    """Run a block of examples with the names of one module."""
-    names = dict(vars(importlib.import_module(module_name)))
+    """Run a block of examples with the names of one module, and the classes of the package."""
+    names = {"Library": Library, "Scheme": Scheme, **vars(importlib.import_module(module_name))}
     lines = block.strip().split("\n")
     shown = 0
     for at, line in enumerate(lines):
@@ -55,6 +58,29 @@ def raised(function, arguments):
     return None
 
 
+def shown(value):
+    """A text of all that the value consists of, objects of the package included."""
+    if isinstance(value, (tuple, list)):
+        return type(value).__name__ + "(" + ", ".join([shown(some) for some in value]) + ")"
+    if isinstance(value, dict):
+        return "{" + ", ".join([shown(key) + ": " + shown(value[key]) for key in value]) + "}"
+    if isinstance(value, (Library, Scheme)):
+        return type(value).__name__ + shown(vars(value))
+    return repr(value)
+
+
+def rebuilt(value):
+    """An equal value that is another object, as far as this can be."""
+    if isinstance(value, (tuple, list)):
+        return type(value)([rebuilt(some) for some in value])
+    if isinstance(value, Library):
+        return Library(value.prime, rebuilt(value.books))
+    if isinstance(value, Scheme):
+        six = (value.prime, value.houses, value.books, value.length, value.is_mixed)
+        return Scheme(*six, rebuilt(value.wishes))
+    return value
+
+
 def number(value):
     return errors.InvalidNumber, "given", value
 
@@ -66,6 +92,15 @@ def plain(name):
 
 ROW, ROWS, LOTS = plain("InvalidRow"), plain("InvalidRows"), plain("InvalidLots")
 FRACTION, OPERATION = plain("InvalidFraction"), plain("InvalidOperation")
+LIBRARY, SCHEME, ANSWERS = plain("InvalidLibrary"), plain("InvalidScheme"), plain("InvalidAnswers")
+
+
+def refused(*reason):
+    return errors.Refused, "reason", reason
+
+
+def too_many(limit):
+    return errors.TooMany, "limit", limit
 
 
 class Errors(unittest.TestCase):
@@ -73,11 +108,11 @@ class Errors(unittest.TestCase):
 
     def check_error(self, function, arguments, expected):
         kind, name, kept = expected
-        before = repr(arguments)
+        before = shown(arguments)
         error = raised(function, arguments)
         told = f"{function.__name__}{before[:300]}"
         self.assertIs(type(error), kind, told)
-        self.assertEqual(repr(arguments), before, told)
+        self.assertEqual(shown(arguments), before, told)
         if name is not None:
             self.assertIs(type(getattr(error, name)), type(kept), told)
             self.assertEqual(getattr(error, name), kept, told)
@@ -104,15 +139,35 @@ class Errors(unittest.TestCase):
     def check_accepts(self, function, before, values):
         """Each value is judged by False, and none raises an error."""
         for value in values:
-            shown = repr(value)
-            self.assertIs(function(*before, value), False, shown[:300])
-            self.assertEqual(repr(value), shown)
+            told = shown(value)
+            self.assertIs(function(*before, value), False, told[:300])
+            self.assertEqual(shown(value), told)
+
+    def check_bent(self, judge, before, own, good, values):
+        """The judge and the test's own one tell the same of what is bent at each place of a good value."""
+        self.assertIs(judge(*before, good), True)
+        taken = 0
+        for path in paths(good):
+            for value in values:
+                bent = put(good, path, value)
+                told = judge(*before, bent)
+                self.assertIs(told, own(*before, bent), shown(bent)[:400])
+                taken += told
+        return taken
+
+    def check_within(self, seconds, function, *arguments):
+        """What the call returns, if it does so in time."""
+        start = time.monotonic()
+        made = function(*arguments)
+        self.assertLess(time.monotonic() - start, seconds, function.__name__)
+        return made
 
     def check_twice(self, function, argument_lists):
-        """Equal calls return equal results."""
+        """Equal calls return equal results, and change no argument."""
         for arguments in argument_lists:
-            again = eval(repr(arguments))
-            self.assertEqual(repr(function(*arguments)), repr(function(*again)))
+            before = shown(arguments)
+            self.assertEqual(shown(function(*arguments)), shown(function(*rebuilt(arguments))))
+            self.assertEqual(shown(arguments), before)
 
 
 def placed(good, changes):
@@ -128,7 +183,9 @@ def deep(many, seed, kind):
 
 def objects():
     """Objects of the package."""
-    return [errors.InvalidRow("a row"), errors.Refused(("zero",)), errors.InvalidNumber(3)]
+    library = Library(5, ((1, 2), (3, 4)))
+    scheme = Scheme(5, 1, 1, 1, False, (((1, (((1,),),)),),))
+    return [errors.InvalidRow("a row"), errors.Refused(("zero",)), errors.InvalidNumber(3), library, scheme]
 
 
 # Values of kinds that are never an integer, and integers that never are within bounds.
@@ -139,6 +196,34 @@ KINDS = [
 FAR = [-1, 10 ** 60, -10 ** 60, 10 ** 99, 10 ** 100 - 1, 1 - 10 ** 100]
 NUMBERS = KINDS + [(), (3,), ((1, 2),)] + FAR
 PRIMES = NUMBERS + [0, 1, 4, 9, 91, 9971, 9974, 9979, 10007]
+
+
+def others_than(kind):
+    """Values that are no objects of the class."""
+    return [value for value in KINDS if not isinstance(value, kind)] + FAR + [(), 3, kind, (3,), ((1, 2),)]
+
+
+def beyond(many):
+    """What is no index from 0 to many - 1."""
+    return NUMBERS + [many, many + 1, 10 ** 59]
+
+
+def no_order(many):
+    """What is no tuple of the indices from 0 to many - 1, each once."""
+    good = tuple(range(many))
+    return KINDS + FAR + [
+        3, (), good[1:], good + (many,), good[:-1] + (many,), (good[0],) * (many + 1), (-1,) + good[1:], (True,) + good[1:],
+        (False,) + good[1:], good[:-1] + (None,), list(good), tuple([(one,) for one in good]), (10 ** 60,) + good[1:],
+        tuple([str(one) for one in good]), good + good, {one: one for one in good}, good[:-1] + (10 ** 99,),
+    ]
+
+
+def no_lot(houses):
+    """What is no lot of so many houses."""
+    return KINDS + FAR + [
+        0, (houses,), (0, houses), (0, 0), (1, 0), (-1,), (-1, 0), (True,), (False,), (0, True), [0], [], ((0,),), ((),),
+        ("0",), (0, None), (10 ** 60,), (0, 10 ** 99), ({},), {0: 0}, tuple(range(houses + 1)), (errors.InvalidRow("0"),),
+    ]
 
 
 def letters_beyond(prime):
@@ -166,6 +251,29 @@ def no_rows(prime):
         ((0,),) * 201, ((0,) * 101,), ((0, 10 ** 60),), ((-1,),), ("ab",), ("",), ({},), {(0,): (0,)},
         (errors.InvalidRow("0"),), ((0, 10 ** 99),),
     ]
+
+
+def paths(value, ahead=()):
+    """All places in nested tuples."""
+    found = [ahead] if ahead else []
+    if isinstance(value, tuple):
+        for at, some in enumerate(value):
+            found.extend(paths(some, ahead + (at,)))
+    return found
+
+
+def put(value, path, new):
+    if not path:
+        return new
+    return tuple([put(some, path[1:], new) if at == path[0] else some for at, some in enumerate(value)])
+
+
+def is_path(value, path):
+    for at in path:
+        if not isinstance(value, tuple) or at >= len(value):
+            return False
+        value = value[at]
+    return True
 
 
 def all_rows(prime, width):

@@ -35,6 +35,55 @@ FUNCTIONS = {
         "lot_sums_of(houses, lots, weights)", "weights_answer(houses, lots)",
         "is_weights_answer(houses, lots, value)", "parts_of(houses, lots)",
     ),
+    "fetchunseen.books.library": (
+        "library_of(prime, books, length, row)", "unit(prime, books, length, book, place)",
+        "part(prime, books, length, row, book)", "without(prime, books, length, row, book)",
+        "exchanged_row(prime, books, row, order)", "joined_rows(prime, books, one, other)",
+    ),
+    "fetchunseen.scheme.schemes": (
+        "scheme_fault(prime, houses, books, length, is_mixed, wishes)", "sums_of(scheme, wish, coin)",
+        "lot_sums(scheme, wish, coin, lot)", "mean(scheme, wish)", "exchanged_houses(scheme, order)",
+        "exchanged_books(scheme, order)", "together(one, other)", "open_scheme(prime, houses, books, length, house)",
+        "all_scheme(prime, houses, books, length, house)",
+    ),
+    "fetchunseen.scheme.right": (
+        "right_answer(scheme)", "is_right_answer(scheme, value)", "is_right(scheme)", "wrong_coins(scheme)",
+        "read(scheme, wish, coin, answers)", "wrong_pair(scheme, wish, coin)",
+        "is_wrong_pair(scheme, wish, coin, value)",
+    ),
+    "fetchunseen.scheme.sight": (
+        "sight(scheme, wish, coin, lot)", "shares(scheme, wish, lot)", "seen_answer(scheme, lots)",
+        "is_seen_answer(scheme, lots, value)", "is_unseen(scheme, lots)", "greatest_unseen(scheme)",
+    ),
+    "fetchunseen.scheme.tables": (
+        "table_count(prime, width)", "table_at(prime, width, number)", "number_of(prime, table)",
+        "alike_answer(prime, width, one, other)", "is_alike_answer(prime, width, one, other, value)",
+        "leading_count(prime, width, one, other)",
+    ),
+    "fetchunseen.scheme.runs": (
+        "draws(scheme, wish)", "coin_at(scheme, wish, draw)", "asked_by(scheme, wish, draw)",
+        "answers_to(library, asks)", "fetched(scheme, wish, draw, answers)", "views(scheme, wish, lot)",
+    ),
+    "fetchunseen.bound.least": (
+        "scale(houses, lots)", "least_mean(houses, lots, books, length)", "least_rate(houses, lots, books)",
+        "least_shown(houses, lots, length)", "gap(houses, lots, books, length)",
+        "books_within(houses, lots, length, goal)",
+    ),
+    "fetchunseen.bound.chain": (
+        "mean_rank(scheme, wish, lot, gone)", "chain_of(scheme, lots, wish)", "is_chain(scheme, lots, wish, value)",
+        "verdict(scheme, lots)", "is_verdict(scheme, lots, value)",
+    ),
+}
+CLASSES = {
+    "fetchunseen.books.library": {
+        "Library(prime, books)": (
+            "told(self, row)", "with_letter(self, book, place, letter)", "exchanged(self, order)", "less(self, other)",
+            "__eq__(self, value)", "__str__(self)",
+        ),
+    },
+    "fetchunseen.scheme.schemes": {
+        "Scheme(prime, houses, books, length, is_mixed, wishes)": ("__eq__(self, value)", "__str__(self)"),
+    },
 }
 CONSTANTS = {
     "fetchunseen.base.fields": {"MOST_PRIME": 9973, "MOST_TIMES": 10 ** 9},
@@ -42,6 +91,9 @@ CONSTANTS = {
     "fetchunseen.base.fractions": {"MOST_ADDED": 100},
     "fetchunseen.lots.lots": {"MOST_HOUSES": 6, "MOST_LOTS": 12},
     "fetchunseen.lots.weights": {"MOST_PARTS": 6},
+    "fetchunseen.scheme.schemes": {"MOST_COINS": 64, "MOST_SUMS": 100, "MOST_ASKED": 400},
+    "fetchunseen.scheme.runs": {"MOST_VIEWS": 2000},
+    "fetchunseen.bound.least": {"MOST_BOOKS": 20},
 }
 
 
@@ -54,6 +106,18 @@ class TestInterface(unittest.TestCase):
                 function = getattr(module, name)
                 self.assertEqual(name + str(inspect.signature(function)), line)
                 self.assertEqual((function.__module__, function.__name__), (module_name, name))
+
+    def test_classes(self):
+        for module_name, told in CLASSES.items():
+            module = importlib.import_module(module_name)
+            for line, methods in told.items():
+                name = line.partition("(")[0]
+                kind = getattr(module, name)
+                self.assertEqual(name + str(inspect.signature(kind)), line)
+                self.assertEqual((kind.__module__, kind.__name__), (module_name, name))
+                for method in methods:
+                    own = vars(kind)[method.partition("(")[0]]
+                    self.assertEqual(method.partition("(")[0] + str(inspect.signature(own)), method)
 
     def test_constants(self):
         for module_name, told in CONSTANTS.items():

@@ -21,6 +21,12 @@ BROKEN = {
     "def f(x=[]):\n    return x": "L4", "async def f(x):\n    return x": "Async", "def f(__x):\n    return 1": "L12",
     "def f(x):\n    return '\\x41'": "L27", "def f(x):\n    return sorted(x, key=len)": "L22",
     "class E(ValueError):\n    def __init__(self):\n        return None": "L28", "@many\ndef f(x):\n    return x": "L4",
+    "def f(x):\n    return x.missing": "L18", "def f(x):\n    x.spot = 1": "attribute", "def f(x):\n    return f'{x!r}'": "L7",
+    "class C:\n    def get(self):\n        return 1": "L26", "class C:\n    def __len__(self):\n        return 1": "__len__",
+    "class C:\n    def __str__(self):\n        x = 1\n        return str(x)": "L28", "def f(x):\n    return f'{x:d}'": "L7",
+    "class C:\n    def far(self):\n        return 1\n\n    def far(self):\n        return 2": "L18",
+    "class C:\n    FAR = 1": "L5", "class C:\n    def __init__(self, x):\n        self.x = x\n\n    def x(self):\n        pass": "L18",
+    "class C:\n    def __init__(self, x):\n        self.x = x\n\n\ndef f(x):\n    return C(x, x)": "L22",
     "def f(x):\n    return list(x)[undefined]": "L8", "def f(x):\n    return [1 for _ in x if _]": "L8",
 }
 

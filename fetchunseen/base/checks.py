@@ -41,3 +41,13 @@ def is_order(value, many):
     if not isinstance(value, tuple) or not all([is_whole(number) for number in value]):
         return False
     return sorted(value) == list(range(many))
+
+
+def is_same(value, wanted):
+    """Whether the value is just this one, made of integers and tuples of them."""
+    # For Python True equals 1, so what looks equal is asked for its kinds, too.
+    if isinstance(wanted, tuple):
+        if not isinstance(value, tuple) or len(value) != len(wanted):
+            return False
+        return all([is_same(some, own) for some, own in zip(value, wanted)])
+    return is_whole(value) and value == wanted

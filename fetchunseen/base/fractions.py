@@ -50,7 +50,7 @@ def check_two(one, other):
     check_fraction(other)
 
 
-# What follows up to total takes longer integers, too: results grow, and are worked on.
+# What follows up to mean_number takes longer integers, too: results grow, and are worked on.
 
 
 def lowest(top, bottom):
@@ -84,6 +84,11 @@ def total(fractions):
     for some in fractions:
         made = sum_of_two(made, some)
     return made
+
+
+def mean_number(pairs):
+    """The mean of integers, told as pairs (times, integer), without checks."""
+    return lowest(sum([count * number for count, number in pairs]), sum([count for count, _ in pairs]))
 
 
 def fraction(top, bottom):

@@ -111,9 +111,29 @@ def reduced(prime, rows):
     return tuple([tuple(row) for row in work[:len(leads)]]), tuple(leads)
 
 
+def narrowed(prime, row, lead):
+    """The row less the lead, so often that it begins with 0; both then without their first letter."""
+    if row[0] == 0:
+        return row[1:]
+    factor = row[0]
+    return [(letter - factor * by) % prime for letter, by in zip(row[1:], lead[1:])]
+
+
 def rank_at(prime, rows):
     """The rank of the rows, without checks."""
-    return len(reduced(prime, rows)[1])
+    # A basis is not wanted here, so leads are dropped, and so is each column when it is done.
+    left = [list(row) for row in rows]
+    found = 0
+    for _ in range(width_of(rows)):
+        top = first_lead(left, 0, 0)
+        if top is None:
+            left = [row[1:] for row in left]
+            continue
+        factor = inverse_of(prime, left[top][0])
+        lead = [letter * factor % prime for letter in left[top]]
+        left = [narrowed(prime, row, lead) for at, row in enumerate(left) if at != top]
+        found += 1
+    return found
 
 
 def kernel_row(prime, width, basis_rows, leads, free):
@@ -133,6 +153,11 @@ def kernel_of(prime, width, rows):
     free = [column for column in range(width) if column not in leads]
     found = [kernel_row(prime, width, made, leads, column) for column in free]
     return tuple([row[::-1] for row in found[::-1]])
+
+
+def relations_at(prime, rows):
+    """The reduced basis of the relations of the rows, without checks."""
+    return kernel_of(prime, len(rows), columns_of(rows))
 
 
 def parts_for(prime, rows, goal):
@@ -194,7 +219,7 @@ def relations(prime, rows):
     """The reduced basis of the letters by which the rows make zeros."""
     check_prime(prime)
     check_rows(prime, rows)
-    return kernel_of(prime, len(rows), columns_of(rows))
+    return relations_at(prime, rows)
 
 
 def parts_or_look(prime, rows, goal):

@@ -1,0 +1,1 @@
+"""Libraries of books, and the rows that ask for their letters."""

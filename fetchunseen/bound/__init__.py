@@ -1,0 +1,1 @@
+"""How few letters can come, and the chain of ranks that shows it."""
