@@ -66,7 +66,8 @@ def shown(value):
         return "{" + ", ".join([shown(key) + ": " + shown(value[key]) for key in value]) + "}"
     if isinstance(value, (Library, Scheme)):
         return type(value).__name__ + shown(vars(value))
-    return repr(value)
+    # Python refuses to write very long integers by their digits.
+    return hex(value) if type(value) is int and value.bit_length() > 1000 else repr(value)
 
 
 def rebuilt(value):
