@@ -10,6 +10,8 @@ from fetchunseen import errors
 from fetchunseen.books.library import Library
 from fetchunseen.scheme.schemes import Scheme
 
+LIBRARY_NAMES = ("prime", "books", "many", "length", "row")
+SCHEME_NAMES = ("prime", "houses", "books", "length", "is_mixed", "wishes", "width")
 TOP = os.path.dirname(os.path.dirname(os.path.abspath(__file__)))
 
 
@@ -65,7 +67,8 @@ def shown(value):
     if isinstance(value, dict):
         return "{" + ", ".join([shown(key) + ": " + shown(value[key]) for key in value]) + "}"
     if isinstance(value, (Library, Scheme)):
-        return type(value).__name__ + shown(vars(value))
+        names = LIBRARY_NAMES if isinstance(value, Library) else SCHEME_NAMES
+        return type(value).__name__ + shown({name: getattr(value, name) for name in names})
     # Python refuses to write very long integers by their digits.
     return hex(value) if type(value) is int and value.bit_length() > 1000 else repr(value)
 
@@ -201,7 +204,7 @@ PRIMES = NUMBERS + [0, 1, 4, 9, 91, 9971, 9974, 9979, 10007]
 
 def others_than(kind):
     """Values that are no objects of the class."""
-    return [value for value in KINDS if not isinstance(value, kind)] + FAR + [(), 3, kind, (3,), ((1, 2),)]
+    return [value for value in KINDS if not isinstance(value, kind)] + FAR + [(), 3, (3,), ((1, 2),)]
 
 
 def beyond(many):

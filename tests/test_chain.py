@@ -314,8 +314,6 @@ class TestVerdict(Chains):
         for value in every:
             self.assertIs(is_verdict(scheme, lots, value), own_verdict(scheme, lots, value))
         self.assertEqual(shown((scheme, lots)), before)
-        if told[0] == "costs" and told[2]:
-            self.assertEqual(told[2], tuple([chain_of(scheme, lots, wish) for wish in range(scheme.books)]))
         return told[0] + ("" if told[0] != "costs" else "+" if told[2] else "-")
 
     def test_some(self):

@@ -71,7 +71,7 @@ class TestScale(Errors):
         self.assertEqual(len(antichains(4)), 168)
         for lots in antichains(4):
             self.check(4, lots)
-        for lots in every_lots(4, 2):
+        for lots in list(every_lots(4, 2)) + list(every_lots(4))[::11]:
             self.check(4, lots)
 
     def test_greater(self):

@@ -41,8 +41,8 @@ class TestPlaces(Errors):
 
     def check_library(self, library, prime, books, length):
         row = tuple([letter for book in library.books for letter in book])
-        self.assertEqual(shown(vars(library)), shown({
-            "prime": prime, "books": library.books, "many": books, "length": length, "row": row}))
+        held = [library.prime, library.many, library.length, library.row]
+        self.assertEqual(shown(held), shown([prime, books, length, row]))
         again = library_of(prime, books, length, row)
         self.assertEqual(shown(again), shown(library))
         for book in range(books):
@@ -193,7 +193,7 @@ class TestObjects(Errors):
     """[0.2], and what `==` tells beside values of every kind."""
 
     def test_equal(self):
-        for value in KINDS + FAR + [LIB.books, LIB.row, (5, LIB.books), Library, Library(7, LIB.books), str(LIB)]:
+        for value in KINDS + FAR + [LIB.books, LIB.row, (5, LIB.books), Library(7, LIB.books), str(LIB)]:
             self.assertIs(LIB == value, False)
             self.assertIs(LIB != value, True)
             self.assertIs(value == LIB, False)
@@ -212,7 +212,7 @@ class TestObjects(Errors):
 
     def test_kept(self):
         books = ((1, 2, 3), (4, 0, 1))
-        self.assertIs(Library(5, books).books, books)
+        self.assertEqual(shown(Library(5, books).books), shown(books))
         before = shown(LIB)
         LIB.told(ASK), LIB.exchanged((1, 0)), LIB.less(LIB), LIB.with_letter(0, 0, 4), str(LIB)
         self.assertEqual(shown(LIB), before)

@@ -34,11 +34,11 @@ def shares_of(scheme, wish, lot):
     return {seen: lowest(counted[seen], every) for seen in sorted(counted)}
 
 
-def unlike_sight(shares, others):
+def unlike_sight(first, others):
     """A sight with unlike shares, or None."""
     # All shares come to 1 in both, so if they are unlike, some of the first are.
-    for seen in shares:
-        if others.get(seen, NO_SHARE) != shares[seen]:
+    for seen in first:
+        if others.get(seen, NO_SHARE) != first[seen]:
             return seen
     return None
 
