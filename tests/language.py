@@ -23,6 +23,8 @@ NODES = {
     "JoinedStr", "FormattedValue",
 }
 OWN_SIGNS = {"__init__", "__eq__", "__str__"}
+# The classes whose objects change, by their methods and by functions of their file.
+CHANGING = {"Desk", "Lines"}
 BUILTINS = {
     "len", "range", "enumerate", "zip", "min", "max", "sum", "abs", "sorted", "reversed", "int", "str", "bool", "list",
     "tuple", "dict", "set", "isinstance", "ord", "repr", "any", "all", "divmod", "Exception", "ValueError", "TypeError",
@@ -158,18 +160,33 @@ def syntax(package, path):
             if len(node.body) != 1 or not isinstance(node.body[0], ast.Return):
                 yield line, "L28: more than one return"
         if isinstance(node, ast.Attribute) and isinstance(node.ctx, ast.Store) and not is_own(parents, node):
-            yield line, "an attribute is assigned to something else than self, or outside of __init__"
+            if not is_changing(package, path, parents, node):
+                yield line, "an attribute is assigned to something else than self, or outside of __init__"
+        if isinstance(node, ast.Call) and isinstance(node.func, ast.Subscript):
+            yield line, "L3: a function of a table is called without a name"
         if isinstance(node, ast.FormattedValue):
             if node.conversion != -1 or node.format_spec or any(isinstance(inner, ast.Constant) for inner in ast.walk(node)):
                 yield line, "L7, L27: what stands in an f-string"
 
 
-def is_own(parents, node):
-    """Whether what is assigned is an attribute of self in an __init__."""
+def function_of(parents, node):
+    """The name of the function in which the node stands."""
     above = parents[node]
     while not isinstance(above, (ast.FunctionDef, ast.Module)):
         above = parents[above]
-    return isinstance(node.value, ast.Name) and node.value.id == "self" and getattr(above, "name", "") == "__init__"
+    return getattr(above, "name", "")
+
+
+def is_own(parents, node):
+    """Whether what is assigned is an attribute of self in an __init__."""
+    return isinstance(node.value, ast.Name) and node.value.id == "self" and function_of(parents, node) == "__init__"
+
+
+def is_changing(package, path, parents, node):
+    """Whether what is assigned is an attribute of an object that changes, in the file of its class."""
+    if not isinstance(node.value, ast.Name) or function_of(parents, node) in OWN_SIGNS:
+        return False
+    return any(node.attr in package.attributes[name] for name in CHANGING & set(defined_in(package.trees[path])))
 
 
 def classes(package, path):
@@ -250,8 +267,13 @@ def module_level(package, path):
                 yield node.lineno, "L3: the target"
             else:
                 bound.append(node.targets[0].id)
-            if any(isinstance(inner, (ast.Call, ast.ListComp, ast.Set, ast.Name)) for inner in ast.walk(node.value)):
+            if any(isinstance(inner, (ast.Call, ast.ListComp, ast.Set)) for inner in ast.walk(node.value)):
                 yield node.lineno, "L3: no plain value"
+            above = {one.name for one in package.trees[path].body[:at] if isinstance(one, ast.FunctionDef)}
+            if {inner.id for inner in ast.walk(node.value) if isinstance(inner, ast.Name)} - above:
+                yield node.lineno, "L3: no function that is defined above"
+            if isinstance(node.value, ast.Name):
+                yield node.lineno, "L3: a second name"
         elif not (at == 0 and isinstance(node, ast.Expr) and isinstance(node.value, ast.Constant)):
             yield node.lineno, "L3: a statement at module level"
     for name in sorted(set(bound)):

@@ -15,9 +15,20 @@ SCHEME_NAMES = ("prime", "houses", "books", "length", "is_mixed", "wishes", "wid
 TOP = os.path.dirname(os.path.dirname(os.path.abspath(__file__)))
 
 
+# What the blocks of later sections take from sections ahead.
+TAKEN = {
+    "fetchunseen.lots.lots": ("all_lots", "lone_lots"),
+    "fetchunseen.books.library": ("Library",),
+    "fetchunseen.scheme.schemes": ("Scheme", "all_scheme", "mean", "open_scheme"),
+    "fetchunseen.scheme.right": ("is_right",),
+    "fetchunseen.scheme.sight": ("is_unseen",),
+}
+
+
 def run_examples(test, module_name, block):
-    """Run a block of examples with the names of one module, and the classes of the package."""
-    names = {"Library": Library, "Scheme": Scheme, **vars(importlib.import_module(module_name))}
+    """Run a block of examples with the names of one module, and some of those ahead."""
+    names = {name: getattr(importlib.import_module(path), name) for path, told in TAKEN.items() for name in told}
+    names.update(vars(importlib.import_module(module_name)))
     lines = block.strip().split("\n")
     shown = 0
     for at, line in enumerate(lines):

@@ -73,6 +73,33 @@ FUNCTIONS = {
         "mean_rank(scheme, wish, lot, gone)", "chain_of(scheme, lots, wish)", "is_chain(scheme, lots, wish, value)",
         "verdict(scheme, lots)", "is_verdict(scheme, lots, value)",
     ),
+    "fetchunseen.make.codes": (
+        "power_rows(prime, many, width)", "word_at(prime, letters, many)", "letters_by(prime, width, places, values)",
+        "is_word(prime, width, value)", "are_apart(prime, rows, most)", "unlike_places(prime, one, other)",
+    ),
+    "fetchunseen.make.lone": (
+        "keys(houses, books)", "asked_numbers(houses, books, wish, key, house)",
+        "key_of(houses, books, wish, house, numbers)", "lone_scheme(prime, houses, books)", "lone_mean(houses, books)",
+        "lone_read(prime, houses, books, key, answers)", "lone_wish(houses, books, one, other, here, there)",
+    ),
+    "fetchunseen.make.sums": (
+        "sum_counts(many, most, books)", "sums_length(many, books)", "sums_mean(many, most, books)",
+        "sums_scheme(prime, many, most, books)", "is_sums_scheme(prime, many, most, books, value)",
+    ),
+    "fetchunseen.make.lots": (
+        "joined_houses(scheme, parts)", "lots_scheme(prime, houses, lots, books)", "is_least(scheme, lots)",
+        "least_answer(prime, houses, lots, books)", "is_least_answer(prime, houses, lots, books, value)",
+    ),
+    "fetchunseen.shade.shaded": (
+        "shaded_fault(prime, houses, books, length, drawn, shared, wishes)", "sent_at(scheme, wish, drawn)",
+        "run_at(scheme, wish, drawn, shared, library)", "is_right_shaded(scheme)", "is_unseen_shaded(scheme, lots)",
+        "shows_other(scheme)", "shaded_scheme(prime, houses, lots, books)",
+    ),
+    "fetchunseen.judge.claims": ("is_claim(value)", "opposite(claim)", "takes(claim, paper)", "settled(claim)"),
+    "fetchunseen.text.texts": (
+        "library_text(library)", "lots_text(houses, lots)", "scheme_text(scheme)", "read_library(text)",
+        "read_lots(text)", "read_scheme(text)",
+    ),
 }
 CLASSES = {
     "fetchunseen.books.library": {
@@ -84,6 +111,16 @@ CLASSES = {
     "fetchunseen.scheme.schemes": {
         "Scheme(prime, houses, books, length, is_mixed, wishes)": ("__eq__(self, value)", "__str__(self)"),
     },
+    "fetchunseen.shade.shaded": {
+        "Shaded(prime, houses, books, length, drawn, shared, wishes)": ("__eq__(self, value)",),
+    },
+    "fetchunseen.house.desk": {
+        "Desk(prime, houses, books, length)": (
+            "put_letter(self, book, place, letter)", "put_lot(self, lot)", "take_lot(self, lot)",
+            "set_scheme(self, scheme)", "fetch(self, wish, draw)", "costs(self, wish)", "sent(self, house)",
+            "account(self)", "undo(self, *, calls=1)", "twin(self)", "__eq__(self, value)", "__str__(self)",
+        ),
+    },
 }
 CONSTANTS = {
     "fetchunseen.base.fields": {"MOST_PRIME": 9973, "MOST_TIMES": 10 ** 9},
@@ -94,6 +131,10 @@ CONSTANTS = {
     "fetchunseen.scheme.schemes": {"MOST_COINS": 64, "MOST_SUMS": 100, "MOST_ASKED": 400},
     "fetchunseen.scheme.runs": {"MOST_VIEWS": 2000},
     "fetchunseen.bound.least": {"MOST_BOOKS": 20},
+    "fetchunseen.make.codes": {"MOST_PLACES": 100},
+    "fetchunseen.shade.shaded": {"MOST_DRAWN": 40, "MOST_SHARED": 8, "MOST_SHADED": 24},
+    "fetchunseen.text.texts": {"MOST_TEXT": 300000},
+    "fetchunseen.house.desk": {"MOST_CALLS": 400},
 }
 
 

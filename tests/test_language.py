@@ -27,6 +27,11 @@ BROKEN = {
     "class C:\n    def far(self):\n        return 1\n\n    def far(self):\n        return 2": "L18",
     "class C:\n    FAR = 1": "L5", "class C:\n    def __init__(self, x):\n        self.x = x\n\n    def x(self):\n        pass": "L18",
     "class C:\n    def __init__(self, x):\n        self.x = x\n\n\ndef f(x):\n    return C(x, x)": "L22",
+    "FORMS = (later, later)\n\n\ndef later(x):\n    return x": "L3", "SECOND = many": "L3",
+    "FORMS = (many, many)\n\n\ndef f(x):\n    return FORMS[0](x)": "L3", "FORMS = (gcd, many)": "L3",
+    "class Desk:\n    def __init__(self):\n        self.n = 0\n\n    def __str__(self):\n        self.n = 1": "attribute",
+    "class Other:\n    def __init__(self):\n        self.n = 0\n\n    def go(self):\n        self.n = 1": "attribute",
+    "class Desk:\n    def __init__(self):\n        self.n = 0\n\n\ndef go(desk):\n    desk.far = 1": "attribute",
     "def f(x):\n    return list(x)[undefined]": "L8", "def f(x):\n    return [1 for _ in x if _]": "L8",
 }
 
@@ -43,6 +48,12 @@ class TestLanguage(unittest.TestCase):
 
     def test_good_file(self):
         self.assertEqual(Package({"fetchunseen/a.py": GOOD}).problems(), [])
+
+    def test_good_changes(self):
+        desk = "class Desk:\n    def __init__(self):\n        self.n = 0\n\n    def go(self):\n        self.n += 1\n\n\ndef back(desk):\n    desk.n = 0\n"
+        table = "FORMS = (many, many)\n\n\ndef f(x):\n    form = FORMS[0]\n    return form(x)\n"
+        for code in (desk, table):
+            self.assertEqual(Package({"fetchunseen/a.py": GOOD + "\n\n" + code}).problems(), [])
 
     def test_broken_files(self):
         for code, rule in BROKEN.items():

@@ -63,6 +63,14 @@ def power_of(prime, letter, times):
     return made
 
 
+def powers_to(number, most):
+    """The powers 0 to most of an integer, as integers."""
+    powers = [1]
+    for _ in range(most):
+        powers.append(powers[-1] * number)
+    return powers
+
+
 def inverse_of(prime, letter):
     """The inverse of a letter other than 0, without checks."""
     # The power prime - 1 is 1, so the one ahead of it is the inverse.

@@ -1,7 +1,7 @@
 """Invertible tables: how many there are, their numbers, and which rows they lead into which."""
 
 from fetchunseen.base.checks import check_between, is_whole
-from fetchunseen.base.fields import are_letters, check_prime, inverse_of, letters_at, number_at
+from fetchunseen.base.fields import are_letters, check_prime, inverse_of, letters_at, number_at, powers_to
 from fetchunseen.base.ranks import rows_at
 from fetchunseen.base.rows import MOST_WIDTH, cleared, columns_of, is_rows, put_through, rank_at, reduced
 from fetchunseen.base.rows import relations_at, told_at, unit_rows, width_of
@@ -34,14 +34,6 @@ def check_alike(prime, width, one, other):
 
 
 # What follows up to unlike_relation takes what is known to fit, without checks.
-
-
-def powers_to(prime, width):
-    """The powers 0 to width of the prime, as integers."""
-    powers = [1]
-    for _ in range(width):
-        powers.append(powers[-1] * prime)
-    return powers
 
 
 def row_counts(prime, width):

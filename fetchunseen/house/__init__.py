@@ -1,0 +1,1 @@
+"""A desk that fetches books from houses."""

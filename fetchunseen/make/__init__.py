@@ -1,0 +1,1 @@
+"""Schemes that need no more letters than must come."""

@@ -1,0 +1,1 @@
+"""Schemes by which the reader learns nothing of other books."""

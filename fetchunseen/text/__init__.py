@@ -1,0 +1,1 @@
+"""Texts of libraries, lots and schemes."""
