@@ -8,10 +8,18 @@ import unittest
 
 from fetchunseen import errors
 from fetchunseen.books.library import Library
+from fetchunseen.house.desk import Desk
 from fetchunseen.scheme.schemes import Scheme
+from fetchunseen.shade.shaded import Shaded
 
-LIBRARY_NAMES = ("prime", "books", "many", "length", "row")
-SCHEME_NAMES = ("prime", "houses", "books", "length", "is_mixed", "wishes", "width")
+# What is told of an object, and by which of it an equal one is made.
+NAMES = {
+    Library: ("prime", "books", "many", "length", "row"),
+    Scheme: ("prime", "houses", "books", "length", "is_mixed", "wishes", "width"),
+    Shaded: ("prime", "houses", "books", "length", "drawn", "shared", "wishes", "sums"),
+    Desk: ("prime", "houses", "books", "length", "library", "lots", "scheme", "calls"),
+}
+MADE_BY = {Library: 2, Scheme: 6, Shaded: 7}
 TOP = os.path.dirname(os.path.dirname(os.path.abspath(__file__)))
 
 
@@ -77,9 +85,11 @@ def shown(value):
         return type(value).__name__ + "(" + ", ".join([shown(some) for some in value]) + ")"
     if isinstance(value, dict):
         return "{" + ", ".join([shown(key) + ": " + shown(value[key]) for key in value]) + "}"
-    if isinstance(value, (Library, Scheme)):
-        names = LIBRARY_NAMES if isinstance(value, Library) else SCHEME_NAMES
-        return type(value).__name__ + shown({name: getattr(value, name) for name in names})
+    if type(value) in NAMES:
+        told = {name: getattr(value, name) for name in NAMES[type(value)]}
+        if isinstance(value, Desk):
+            told["sent"] = [value.sent(house) for house in range(value.houses)]
+        return type(value).__name__ + shown(told)
     # Python refuses to write very long integers by their digits.
     return hex(value) if type(value) is int and value.bit_length() > 1000 else repr(value)
 
@@ -88,12 +98,10 @@ def rebuilt(value):
     """An equal value that is another object, as far as this can be."""
     if isinstance(value, (tuple, list)):
         return type(value)([rebuilt(some) for some in value])
-    if isinstance(value, Library):
-        return Library(value.prime, rebuilt(value.books))
-    if isinstance(value, Scheme):
-        six = (value.prime, value.houses, value.books, value.length, value.is_mixed)
-        return Scheme(*six, rebuilt(value.wishes))
-    return value
+    if type(value) in MADE_BY:
+        names = NAMES[type(value)][:MADE_BY[type(value)]]
+        return type(value)(*[rebuilt(getattr(value, name)) for name in names])
+    return value.twin() if isinstance(value, Desk) else value
 
 
 def number(value):
@@ -108,6 +116,7 @@ def plain(name):
 ROW, ROWS, LOTS = plain("InvalidRow"), plain("InvalidRows"), plain("InvalidLots")
 FRACTION, OPERATION = plain("InvalidFraction"), plain("InvalidOperation")
 LIBRARY, SCHEME, ANSWERS = plain("InvalidLibrary"), plain("InvalidScheme"), plain("InvalidAnswers")
+SHADED, CLAIM = plain("InvalidShaded"), plain("InvalidClaim")
 
 
 def refused(*reason):
@@ -200,7 +209,9 @@ def objects():
     """Objects of the package."""
     library = Library(5, ((1, 2), (3, 4)))
     scheme = Scheme(5, 1, 1, 1, False, (((1, (((1,),),)),),))
-    return [errors.InvalidRow("a row"), errors.Refused(("zero",)), errors.InvalidNumber(3), library, scheme]
+    shaded = Shaded(5, 1, 1, 1, 0, 0, (((((((1,), (), ()),),)), ((1,),)),))
+    desk = Desk(5, 1, 1, 1)
+    return [errors.InvalidRow("a row"), errors.Refused(("zero",)), errors.InvalidNumber(3), library, scheme, shaded, desk]
 
 
 # Values of kinds that are never an integer, and integers that never are within bounds.
