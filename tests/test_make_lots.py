@@ -8,7 +8,7 @@ from fractions import Fraction
 from fetchunseen.base.fields import next_prime
 from fetchunseen.bound.least import least_mean, scale
 from fetchunseen.lots.lots import all_lots, exchanged_lots, greatest_lots, lone_lots, spread_lots
-from fetchunseen.lots.weights import parts_of, weights_answer
+from fetchunseen.lots.weights import is_weights_answer, parts_of, weights_answer
 from fetchunseen.make.lone import lone_scheme
 from fetchunseen.make.lots import is_least, is_least_answer, joined_houses, least_answer, lots_scheme
 from fetchunseen.make.sums import sums_scheme
@@ -262,8 +262,7 @@ class TestAnswers(Errors):
             return False
         if not is_exactly(value[0], pair(own_least(houses, lots, books))):
             return False
-        answer = weights_answer(houses, lots)
-        if not is_exactly(value[1], answer) and not any([is_exactly(value[1], ("free", house)) for house in own_free(houses, lots)]):
+        if not is_weights_answer(houses, lots, value[1]):
             return False
         scheme = value[2]
         return (scheme.prime, scheme.houses, scheme.books) == (prime, houses, books) and own_is_least(scheme, lots)
