@@ -378,6 +378,16 @@ class TestRefused(Texts):
                     self.check_error(function, (value,), OPERATION(None))
             self.check_arguments(function, (texts()[{read_library: 0, read_lots: 4, read_scheme: 9}[function]][1],), [(OPERATION, [value for value in values if not isinstance(value, bytes)])])
 
+    def test_all_signs(self):
+        for function in READERS:
+            for code in range(256):
+                text = "lots 2\n" + chr(code)
+                if 32 <= code <= 126 or code == 10:
+                    self.assertIs(type(raised(function, (text,))), ParseError)
+                    self.check_text(function, text)
+                else:
+                    self.check_error(function, (text,), OPERATION(None))
+
     def test_long_texts(self):
         for function in READERS:
             for text in ("\n" * 300000, " " * 300000, "9" * 300000, "x" * 300000, "library 5\nbook" + " 1" * 149990 + "\n", "lots 6\n" + "lot\n" * 70000, "library " + "7" * 299000 + "\n",

@@ -284,8 +284,13 @@ def is_unseen_shaded(scheme, lots):
     check_shaded(scheme)
     if not are_lots(scheme.houses, lots):
         raise InvalidLots("lots of the scheme's houses are wanted")
-    # What a lot sees, each lot sees that it is within.
-    return all([is_blind(scheme, lot) for lot in greatest_lots(scheme.houses, lots)])
+    # What a lot sees, each lot sees that it is within: often one look at all houses is enough.
+    if len(lots) > 1 and is_blind(scheme, tuple(range(scheme.houses))):
+        return True
+    for lot in greatest_lots(scheme.houses, lots):
+        if not is_blind(scheme, lot):
+            return False
+    return True
 
 
 def shows_other(scheme):
