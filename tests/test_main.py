@@ -1,5 +1,6 @@
 """The main statements, over all stages, and the examples of README.md."""
 
+import builtins
 import doctest
 import itertools
 import os
@@ -116,6 +117,8 @@ class TestMain(Errors):
             text = "\n".join([line for line in file.read().split("\n") if line != "```"])
         examples = doctest.DocTestParser().get_doctest(text, {}, "README.md", "README.md", 0)
         said = []
+        # What an example shows is kept as a builtin, and other tests look at these.
+        self.addCleanup(vars(builtins).pop, "_", None)
         result = doctest.DocTestRunner(verbose=False).run(examples, out=said.append)
         self.assertEqual((result.failed, said), (0, []))
         self.assertGreater(result.attempted, 25)

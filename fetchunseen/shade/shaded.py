@@ -194,15 +194,12 @@ def is_blind(scheme, lot):
 def is_other_shown(scheme, wish):
     """Whether for the wish something of another book is shown."""
     asks = in_sequence(scheme.wishes[wish][0])
-    if not asks:
-        return False
     # What these letters make of the answers is free of all shared letters.
     free = relations_at(scheme.prime, [weights for _, _, weights in asks])
     made = put_through(scheme.prime, free, [in_one((row,) + rows) for row, rows, _ in asks])
-    width = scheme.books * scheme.length
     for row in made:
         for sums in parts_at(1 + scheme.drawn, row):
-            if any(sums[:wish * scheme.length] + sums[(wish + 1) * scheme.length:width]):
+            if any(sums[:wish * scheme.length] + sums[(wish + 1) * scheme.length:]):
                 return True
     return False
 
