@@ -108,12 +108,22 @@ def are_spread(houses, value):
     return 1 <= sum(value) <= MOST_HOUSES
 
 
+def pieces_by(parts, values):
+    """The values in neighbouring pieces, each as long as its part tells."""
+    pieces = []
+    first = 0
+    for many in parts:
+        pieces.append(values[first:first + many])
+        first = first + many
+    return pieces
+
+
 def new_lot(lot, parts):
     """The ascending tuple of the new houses for which the houses of the lot stand."""
+    pieces = pieces_by(parts, list(range(sum(parts))))
     found = []
     for house in lot:
-        first = sum(parts[:house])
-        found.extend(list(range(first, first + parts[house])))
+        found.extend(pieces[house])
     return tuple(found)
 
 

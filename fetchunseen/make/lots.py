@@ -6,7 +6,7 @@ from fetchunseen.base.fractions import product_of_two
 from fetchunseen.books.library import check_books
 from fetchunseen.bound.least import least_for_one, scale_of
 from fetchunseen.errors import InvalidOperation
-from fetchunseen.lots.lots import MOST_HOUSES, check_housed, free_in
+from fetchunseen.lots.lots import MOST_HOUSES, check_housed, free_in, pieces_by
 from fetchunseen.lots.weights import MOST_PARTS, is_weights_answer, parts_of, weights_answer
 from fetchunseen.make.sums import check_fitting, made_scheme
 from fetchunseen.scheme.right import is_right_scheme
@@ -33,12 +33,7 @@ def are_joined(houses, value):
 
 def joined_asks(asks, parts):
     """For each house what its small houses are asked, one behind the other."""
-    made = []
-    first = 0
-    for many in parts:
-        made.append(in_sequence(asks[first:first + many]))
-        first = first + many
-    return tuple(made)
+    return tuple([in_sequence(piece) for piece in pieces_by(parts, asks)])
 
 
 def joined_of(scheme, parts):

@@ -6,7 +6,7 @@ from fetchunseen.base.rows import inverse_table, is_row_of, put_through, rank_at
 from fetchunseen.base.rows import told_at, unit_rows
 from fetchunseen.books.library import MOST_HELD, check_library, in_one, part_at, parts_at
 from fetchunseen.errors import InvalidLots, InvalidOperation, InvalidShaded, Refused
-from fetchunseen.lots.lots import are_lots, check_housed, greatest_lots
+from fetchunseen.lots.lots import are_lots, check_housed, greatest_lots, pieces_by
 from fetchunseen.lots.weights import parts_of
 from fetchunseen.scheme.schemes import in_sequence, many_sums, shape_fault
 
@@ -224,16 +224,6 @@ def ask_at(powers, most, books, wish):
     return (row, tuple(rows), powers[:most])
 
 
-def asks_by_house(parts, asks):
-    """For each house the asks of its parts."""
-    made = []
-    first = 0
-    for many in parts:
-        made.append(tuple(asks[first:first + many]))
-        first = first + many
-    return tuple(made)
-
-
 def made_shaded(prime, parts, most, books):
     """The scheme with one ask for each part, from which just the wished book can be read."""
     many = sum(parts)
@@ -242,8 +232,8 @@ def made_shaded(prime, parts, most, books):
     readings = inverse_table(prime, values)[most:]
     wishes = []
     for wish in range(books):
-        asks = [ask_at(powers, most, books, wish) for powers in values]
-        wishes.append((asks_by_house(parts, asks), readings))
+        asks = tuple([ask_at(powers, most, books, wish) for powers in values])
+        wishes.append((tuple(pieces_by(parts, asks)), readings))
     length = many - most
     return Shaded(prime, len(parts), books, length, books * length * most, most, tuple(wishes))
 
